@@ -1,0 +1,1 @@
+"""Unmissed: may a door be taken away because nobody was heard at it?"""
