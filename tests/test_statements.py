@@ -3,7 +3,7 @@
 import unittest
 
 from unmissed.books import Book
-from tests.samples import DAY_LINE, client, book_of, day_of, fault
+from tests.samples import DAY_LINE, WEEK, book_of, client, day_of, fault
 
 
 class StatementTest(unittest.TestCase):
@@ -157,7 +157,7 @@ class ExpressionTest(unittest.TestCase):
         self.assert_all_wrong("same(x,y)", "same(x,  y)", "same(x , y)", "same( x, y)", "same(x, y )",
                               "same (x, y)", "not( x)", "not(x )", " x", "x ", "not(x) ", "same(x,\ty)")
         self.assert_all_wrong("not(x", "not x)", "not(x))", "not((x)", "not((x))", "same(not(x, y)",
-                              "same(x), y)", "not(x)(y)", "not(x), y", "same(x, y)z", ", x", "x,", "),(")
+                              "same(x), y)", "not(x)(y)", "not(x), y", "not(xx", "same(x, yy", "not(x,", "not(x]", "same(x, y)z", ", x", "x,", "),(")
 
     def test_parts_within_parts(self):
         self.assert_all_right("same(and(x, y), or(u, week))", "less(x, same(less(x, y), not(u)))",
@@ -190,6 +190,21 @@ class ExpressionTest(unittest.TestCase):
         first = client("a", "  day", "    tell x")
         second = client("b", "  cell x 2", "  day", "    tell x")
         self.assertEqual(fault(book_of(*first, *second)), 7)
+
+
+class ReadTest(unittest.TestCase):
+    def test_what_is_read_of_a_day(self):
+        self.assertEqual(Book(WEEK)["shop"].day, (
+            ("if", (("same", ("cell", 1), ("figure", 0)),), (
+                (("ask", ("price", 0), ((("cry", (), ()),),)), ("set", (1, ("figure", 4)), ())),
+                (("set", (1, ("fewer", ("cell", 1))), ()),))),
+            ("tell", (("cell", 0),), ())))
+        self.assertEqual(Book(day_of("tell and(week, u)", "ask stock", "repeat 3", "  stop"))["shop"].day, (
+            ("tell", (("and", ("calendar", 7), ("user", 0)),), ()),
+            ("ask", ("stock", None), ((),)),
+            ("repeat", (3,), ((("stop", (), ()),),))))
+        self.assertEqual(Book(day_of("if 1", "  rest"))["shop"].day,
+                         (("if", (("figure", 1),), ((("rest", (), ()),), ())),))
 
 
 class AsksTest(unittest.TestCase):

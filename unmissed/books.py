@@ -57,7 +57,7 @@ class Book:
 
     def worth(self, calendar, day):
         """The worth of a calendar on a day."""
-        if not isinstance(calendar, str) or calendar not in names_of(self.calendars):
+        if calendar not in names_of(self.calendars):
             raise BadName(calendar)
         if not is_day(day):
             raise BadDay(day)
@@ -78,10 +78,10 @@ class Book:
         return len(self.clients)
 
     def __contains__(self, value):
-        return isinstance(value, str) and value in self.clients
+        return value in self.clients
 
     def __getitem__(self, name):
-        if not isinstance(name, str) or name not in self.clients:
+        if name not in self.clients:
             raise NoClient(name)
         return self._members[name]
 

@@ -10,9 +10,9 @@ def is_made_of(text, signs):
     return all([sign in signs for sign in text])
 
 
-def is_name(value):
-    """Whether any value is a name."""
-    return isinstance(value, str) and 1 <= len(value) <= LONGEST_NAME and is_made_of(value, LETTERS)
+def is_name(word):
+    """Whether a word is a name."""
+    return 1 <= len(word) <= LONGEST_NAME and is_made_of(word, LETTERS)
 
 
 def read_figure(word, low, high):
