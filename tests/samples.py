@@ -1,7 +1,7 @@
 """Texts of books that several tests use, and what Book says of a text."""
 
 from unmissed.books import Book
-from unmissed.errors import BadBook
+from unmissed.errors import BadBook, UnmissedError
 
 # The example at the end of section 4.
 SHOP = "\n".join([
@@ -108,3 +108,24 @@ def day_of(*lines):
 
 
 DAY_LINE = 12
+
+
+def book_with(*lines, lives="always", sleeps="0", begins="always", doors=("price 2",), calendars=(), heads=()):
+    """A book with one client, shop, whose day has these lines."""
+    ahead = [f"calendar {row}" for row in calendars] + [f"door {row}" for row in doors] + ["client shop"]
+    ahead += ["  one"] if begins == "one" else [f"  begins {begins}", f"  lives {lives}"]
+    ahead += [f"  sleeps {sleeps}"] + [f"  {row}" for row in heads] + ["  day"]
+    return Book("\n".join(ahead + ["    " + line for line in lines]))
+
+
+# Any value that is no integer, no tuple and no name of anything.
+ODD_VALUES = [None, True, False, [], {}, "", "Shop", "shop ", [1], {"shop": 1}, ["shop"], [[[[]]]], {"a": [(1, {})]},
+              Book(SHOP), Book(SHOP)["shop"]]
+
+
+def raised(function, *arguments):
+    """The name and the value of the error that a call raises; what it returns if it raises none."""
+    try:
+        return function(*arguments)
+    except UnmissedError as error:
+        return error.__class__.__name__, error.value

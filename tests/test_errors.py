@@ -2,8 +2,12 @@
 
 import unittest
 
+import unmissed.asking
 import unmissed.books
+import unmissed.days
 import unmissed.editing
+import unmissed.fitting
+import unmissed.reports
 from unmissed import errors
 from unmissed.books import Book
 from tests.samples import SHOP
@@ -60,6 +64,10 @@ class InterfaceTest(unittest.TestCase):
         self.assert_defined(errors, ["UnmissedError"] + NAMES)
         self.assert_defined(unmissed.books, ["Book", "Client"])
         self.assert_defined(unmissed.editing, ["forwarded", "shut_out", "without", "joined"])
+        self.assert_defined(unmissed.days, ["first_stand", "turns", "happens", "lived"])
+        self.assert_defined(unmissed.reports, ["is_report", "is_history", "days_of", "folded", "fits"])
+        self.assert_defined(unmissed.fitting, ["can_be", "shows_can_be", "stands", "within", "shows_within"])
+        self.assert_defined(unmissed.asking, ["still_asked", "shows_still_asked"])
 
     def test_methods_stand_in_the_class_itself(self):
         for name in ("worth", "moment", "__eq__", "__len__", "__contains__", "__getitem__"):
