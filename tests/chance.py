@@ -2,6 +2,8 @@
 
 import random
 
+from tests.samples import fault
+
 STATES = ("open", "shut", "half")
 
 
@@ -128,3 +130,68 @@ def other_ones(value):
         for other in changed(part):
             yield value[:at] + (other,) + value[at + 1:]
     yield value[::-1]
+
+
+class ShutMaker(Maker):
+    """Books in which a shut door is seen now and then, late or not at all; two clients are much alike."""
+
+    def statement(self, depth, room):
+        ahead, names = "  " * (depth + 1), self.names or ["0"]
+        kind = self.chance.random()
+        if kind < 0.4:
+            cell = " " + self.one_of(*self.cells) if self.cells and self.chance.random() < 0.7 else ""
+            lines = [f"{ahead}ask {self.one_of(self.doors[0], *self.doors)}{cell}"]
+            if depth < 4 and self.chance.random() < 0.6:
+                lines += [ahead + "else"] + self.block(depth + 1, room)
+            return lines
+        if kind < 0.6 and depth < 3:
+            word = self.one_of("", "", "not", "same", "less")
+            test = {"": self.one_of(*names), "not": f"not({self.one_of(*names)})"}.get(
+                word, f"{word}({self.one_of(*names)}, {self.one_of('1', '2', *names)})")
+            lines = [f"{ahead}if {test}"] + self.block(depth + 1, room)
+            if self.chance.random() < 0.4:
+                lines += [ahead + "else"] + self.block(depth + 1, room)
+            return lines
+        if kind < 0.85 and self.cells:
+            cell = self.one_of(*self.cells)
+            return [f"{ahead}set {cell} " + self.one_of("1", "2", f"more({cell})", f"fewer({cell})", *names)]
+        return [ahead + self.one_of("rest", "rest", "stop", "cry", "tell " + self.one_of(*names))]
+
+    def client(self, name, can_be_one, is_small):
+        lines = super().client(name, can_be_one, is_small)
+        if self.chance.random() < 0.6:
+            # A copy that asks on some days alone.
+            at = lines.index("  day")
+            room = [self.one_of(3, 5)]
+            test = self.one_of(*[f"same({name}, 1)" for name in self.names] or ["1"])
+            lines[at + 1:] = [f"    if {test}"] + self.block(2, room) + self.block(1, [2])
+        if self.cells and self.chance.random() < 0.6:
+            lines.append("    " + self.one_of("tell", "tell", "if") + " " + self.one_of(*self.cells))
+            if lines[-1].startswith("    if"):
+                lines.append("      " + self.one_of("cry", "stop"))
+        return lines
+
+    def book(self, is_small=True):
+        """The second client is often the first one with a statement more or exchanged."""
+        while True:
+            text = self.one_book(is_small)
+            # A day may have too many statements, another one not.
+            if fault(text) is None:
+                return text
+
+    def one_book(self, is_small):
+        lines = super().book(is_small).split("\n")
+        firsts = [at for at, line in enumerate(lines) if line.startswith("client ")]
+        if self.chance.random() < 0.7:
+            lines = lines[:firsts[1]] if len(firsts) > 1 else lines
+            twin = lines[firsts[0]:]
+            if "  one" in twin:
+                twin[twin.index("  one"):twin.index("  one") + 1] = ["  begins always", "  lives always"]
+            at = self.chance.randrange(twin.index("  day") + 1, len(twin))
+            word = twin[at].strip().split(" ")[0]
+            if word in ("tell", "cry", "set", "rest", "stop"):
+                twin[at] = twin[at][:len(twin[at]) - len(twin[at].lstrip())] + self.one_of("rest", "cry", "stop")
+            else:
+                twin.append("    " + self.one_of("rest", "cry", "stop", "tell 1"))
+            lines += ["client twin"] + twin[1:]
+        return "\n".join(lines)

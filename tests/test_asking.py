@@ -60,6 +60,13 @@ class StillAskedTest(unittest.TestCase):
         self.assertEqual(self.told(ends, ((5, OPEN),)), ("never", ((5, "shop", ((1,), 0, (), 1)),)))
         self.assertEqual(self.told(ends, ((6, OPEN),)), ("never", ()))
 
+    def test_who_is_there_comes_in_the_last_morning_alone(self):
+        first = ["client a", "  begins until 0", "  lives always", "  sleeps 0", "  cell x 9", "  day", "    set x more(x)"]
+        book = Book(book_of(*first, "client b", "  begins until 4", *client("b", "  day", "    stop")[2:]))
+        rows = tuple((moment, "a", plain(moment)) for moment in range(2, 6)) + tuple((5, "a", plain(x)) for x in (6, 7, 8))
+        begins = tuple((day, "b", plain()) for day in range(2, 5))
+        self.assertEqual(self.told(book, ((2, OPEN),)), ("never", tuple(sorted(rows + begins))))
+
     def test_moments(self):
         book = book_with("if same(k, 1)", "  set x 1", calendars=("k 3",), heads=("cell x 2",), begins="until 1")
         rows = {(0, 0), (1, 0), (2, 1), (3, 1), (4, 1)}

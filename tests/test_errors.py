@@ -7,7 +7,11 @@ import unmissed.books
 import unmissed.days
 import unmissed.editing
 import unmissed.fitting
+import unmissed.harming
+import unmissed.parting
+import unmissed.plans
 import unmissed.reports
+import unmissed.waiting
 from unmissed import errors
 from unmissed.books import Book
 from tests.samples import SHOP
@@ -68,6 +72,10 @@ class InterfaceTest(unittest.TestCase):
         self.assert_defined(unmissed.reports, ["is_report", "is_history", "days_of", "folded", "fits"])
         self.assert_defined(unmissed.fitting, ["can_be", "shows_can_be", "stands", "within", "shows_within"])
         self.assert_defined(unmissed.asking, ["still_asked", "shows_still_asked"])
+        self.assert_defined(unmissed.harming, ["harm", "shows_harm", "harmed", "hurts", "shows_hurts"])
+        self.assert_defined(unmissed.waiting, ["wait", "shows_wait"])
+        self.assert_defined(unmissed.plans, ["enough", "shows_enough", "cheapest", "shows_cheapest"])
+        self.assert_defined(unmissed.parting, ["parted", "shows_parted"])
 
     def test_methods_stand_in_the_class_itself(self):
         for name in ("worth", "moment", "__eq__", "__len__", "__contains__", "__getitem__"):

@@ -1,6 +1,6 @@
 """Copies of a client: their stands, their turns, and how the ones lead to the others."""
 
-from unmissed.rules import can_meet, done_of
+from unmissed.rules import HALF, can_meet, done_of
 from unmissed.values import is_integer
 from unmissed.waking import CRY, Waking
 
@@ -46,13 +46,20 @@ def are_from(choices, leasts):
     return all([choice >= least for choice, least in zip(choices, leasts)])
 
 
-def answer_bounds(client):
-    """For each door of the book how many answers a turn of the client can have of it."""
-    return [size if name in client.asks else 1 for name, size in client.book.doors]
+def answer_bounds(clients):
+    """For each door of the book how many answers a turn has of it that these clients share."""
+    found = []
+    for name, size in clients[0].book.doors:
+        found.append(size if [client for client in clients if name in client.asks] else 1)
+    return found
 
 
-def is_turn(client, stand, value):
-    """Whether any value is a turn that is allowed at a stand on a half day."""
+def is_turn(clients, stand, value):
+    """Whether any value is a turn that is allowed at a stand on a half day, and that these clients share.
+
+    Clients share turns if they have like users and like sleeps.
+    """
+    client = clients[0]
     if value == ():
         return can_sleep(client, stand)
     if not isinstance(value, tuple) or len(value) != 3:
@@ -62,7 +69,7 @@ def is_turn(client, stand, value):
         return False
     if not are_from(choices, least_choices(client, stand[2])):
         return False
-    return are_below(answers, answer_bounds(client)) and isinstance(is_met, bool)
+    return are_below(answers, answer_bounds(clients)) and isinstance(is_met, bool)
 
 
 def combined(rows):
@@ -73,11 +80,12 @@ def combined(rows):
     return found
 
 
-def waking_turns(client, lacks, state):
-    """The ascending list of all turns of a waking copy on a day of a state."""
-    bounds = [size for _, size, _ in client.users]
-    choices = combined([list(range(least, bound)) for least, bound in zip(least_choices(client, lacks), bounds)])
-    answers = combined([list(range(bound)) for bound in answer_bounds(client)])
+def waking_turns(clients, lacks, state):
+    """The ascending list of all turns that waking copies of these clients share on a day of a state."""
+    leasts = least_choices(clients[0], lacks)
+    bounds = [size for _, size, _ in clients[0].users]
+    choices = combined([list(range(least, bound)) for least, bound in zip(leasts, bounds)])
+    answers = combined([list(range(bound)) for bound in answer_bounds(clients)])
     mets = [is_met for is_met in (False, True) if can_meet(state, is_met)]
     return combined([choices, answers, mets])
 
@@ -126,6 +134,7 @@ class Copies:
         self.door = door
         self.rounds = book.rounds
         self.kept_runs = {}
+        self.kept_steps = {}
 
     def runs(self, day, cells):
         """Lists of (turn, cells behind, done) for waking copies with these cells.
@@ -141,7 +150,7 @@ class Copies:
         """Works out the runs of a day."""
         lackless = (0,) * len(self.client.users)
         found = {}
-        for turn in waking_turns(self.client, lackless, "half"):
+        for turn in waking_turns([self.client], lackless, HALF):
             told = waking_day(self.client, self.door, day, cells, turn)
             group = found.setdefault(lacks_behind(self.client, lackless, turn[0]), {})
             group.setdefault((turn[2], told[0], done_of(told)), turn)
@@ -149,6 +158,13 @@ class Copies:
 
     def steps(self, day, stand):
         """A list of (turn, behind, done) that has all stands behind and ears, for a half day."""
+        key = (day % self.rounds, stand)
+        if key not in self.kept_steps:
+            self.kept_steps[key] = self.new_steps(day, stand)
+        return self.kept_steps[key]
+
+    def new_steps(self, day, stand):
+        """Works out the steps of a day."""
         cells, _, lacks, age = stand
         leasts = least_choices(self.client, lacks)
         found = []

@@ -21,7 +21,7 @@ def turns(book, door, client, stand, state):
     if state not in STATES:
         raise BadState(state)
     asleep = [()] if can_sleep(member, stand) else []
-    return tuple(asleep + waking_turns(member, stand[2], state))
+    return tuple(asleep + waking_turns([member], stand[2], state))
 
 
 def happens(book, door, client, day, stand, turn):
@@ -32,7 +32,7 @@ def happens(book, door, client, day, stand, turn):
         raise BadDay(day)
     if not is_stand(member, stand):
         raise BadStand(stand)
-    if not is_turn(member, stand, turn):
+    if not is_turn([member], stand, turn):
         raise BadTurn(turn)
     return outcome_of(member, door, day, stand, turn)
 

@@ -107,15 +107,23 @@ def life_of_one(past):
     return walk.life(many, sorted(list(walk.mornings[many]), key=stand_key)[0])
 
 
+def told_fault(past, lives):
+    """What can_be tells of a history that cannot be, lives being those of its somes; None if it can."""
+    many = longest_beginning(past, lives)
+    if many == len(past.reports):
+        return None
+    fault = first_fault(lives, many)
+    return fault + (rows_of_fault(past, fault).table(many + 1),)
+
+
 def can_be(book, door, history):
     """What shows that a history can be, or from where on it cannot."""
     check_door(book, door)
     past = Past(book, door, days_of(book, history))
     lives = lives_of_somes(past)
-    many = longest_beginning(past, lives)
-    if many < len(past.reports):
-        fault = first_fault(lives, many)
-        return fault + (rows_of_fault(past, fault).table(many + 1),)
+    fault = told_fault(past, lives)
+    if fault is not None:
+        return fault
     single = life_of_one(past)
     rows = []
     for some in somes_of(past.reports):

@@ -23,7 +23,7 @@ def outcomes_of(book, door, value):
     stand = begun(client)
     found = []
     for at, turn in enumerate(met):
-        if stand is None or not is_turn(client, stand, turn):
+        if stand is None or not is_turn([client], stand, turn):
             return None
         found.append(outcome_of(client, door, begin + at, stand, turn))
         stand = found[at][0]

@@ -9,16 +9,20 @@ from unmissed.walks import Walk, lasting, longest_through
 class Past:
     """The walks of all clients through the days of these reports; TooMany where they are too many."""
 
-    def __init__(self, book, door, reports):
+    def __init__(self, book, door, reports, members=None):
+        """members is a dict: the name of a client -> its Copies; None makes new ones."""
         self.book = book
         self.door = door
         self.reports = reports
         self.one = None
+        self.members = members
+        if members is None:
+            self.members = {name: Copies(book, door, name) for name in book.clients}
         # By the lives that fit, and by those that can have been.
         self.fit_walks = {}
         self.been_walks = {}
         for name in book.clients:
-            copies = Copies(book, door, name)
+            copies = self.members[name]
             self.fit_walks[name] = Walk(copies, fit_rules(reports, name))
             self.been_walks[name] = self.fit_walks[name]
             if book[name].is_one:

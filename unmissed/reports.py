@@ -6,6 +6,7 @@ from unmissed.rules import ANYBODY, EARS, NONE, SOME, STATES, fit_rules
 from unmissed.values import check_door, is_integer
 
 MOST_LIKE = 60
+MOST_PLANNED = 12
 
 
 def is_ear(book, value):
@@ -29,6 +30,18 @@ def is_report(book, value):
         return False
     heads = [ear[:2] for ear in ears]
     return heads == sorted(set(heads))
+
+
+def has_some(report):
+    """Whether a report tells that something was heard."""
+    return SOME in [word for _, _, word in report[1]]
+
+
+def is_plan(book, value):
+    """Whether any value is a plan, a tuple with a report for each of its days, on which nothing is heard."""
+    if not isinstance(value, tuple) or len(value) > MOST_PLANNED:
+        return False
+    return all([is_report(book, report) and not has_some(report) for report in value])
 
 
 def is_row(book, value):

@@ -1,5 +1,8 @@
 """Rules: what the report of a day lets the copies of a client do."""
 
+OPEN = "open"
+SHUT = "shut"
+HALF = "half"
 STATES = ("open", "shut", "half")
 ASKS = "asks"
 EARS = ("asks", "cries")
@@ -10,7 +13,7 @@ NONE = "none"
 
 def can_meet(state, is_met):
     """Whether is_met can be so on a day of this state."""
-    return state == "half" or is_met == (state == "open")
+    return state == HALF or is_met == (state == OPEN)
 
 
 def done_of(outcome):
