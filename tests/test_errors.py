@@ -1,17 +1,22 @@
 """Section 2: the errors, and the names of the interface that have landed."""
 
+import inspect
 import unittest
 
 import unmissed.asking
 import unmissed.books
 import unmissed.days
+import unmissed.desk
 import unmissed.editing
 import unmissed.fitting
 import unmissed.harming
+import unmissed.journals
 import unmissed.parting
 import unmissed.plans
 import unmissed.reports
+import unmissed.texts
 import unmissed.waiting
+import unmissed.watches
 from unmissed import errors
 from unmissed.books import Book
 from tests.samples import SHOP
@@ -58,29 +63,66 @@ class ErrorsTest(unittest.TestCase):
                 self.assertRaises(TypeError, getattr(errors, name), 1, 2)
 
 
+INTERFACE = {
+    unmissed.editing: "forwarded(book, client, old, new) shut_out(book, client, door) without(book, client) "
+                      "joined(one, other)",
+    unmissed.days: "first_stand(book, client) turns(book, door, client, stand, state) "
+                   "happens(book, door, client, day, stand, turn) lived(book, door, life)",
+    unmissed.reports: "is_report(book, value) is_history(book, value) days_of(book, history) folded(book, reports) "
+                      "fits(book, door, history, life)",
+    unmissed.fitting: "can_be(book, door, history) shows_can_be(book, door, history, value) "
+                      "stands(book, door, history, client) within(book, door, one, other) "
+                      "shows_within(book, door, one, other, value)",
+    unmissed.asking: "still_asked(book, door, history) shows_still_asked(book, door, history, value)",
+    unmissed.harming: "harm(book, door, history) shows_harm(book, door, history, value) harmed(book, door, history) "
+                      "hurts(book, door, history, plan) shows_hurts(book, door, history, plan, value)",
+    unmissed.waiting: "wait(book, door, history, report) shows_wait(book, door, history, report, value)",
+    unmissed.plans: "enough(book, door, history, plan) shows_enough(book, door, history, plan, value) "
+                    "cheapest(book, door, history, offers, *, gentle=False) "
+                    "shows_cheapest(book, door, history, offers, value, *, gentle=False)",
+    unmissed.parting: "parted(book, one, other, door, state, eyes) "
+                      "shows_parted(book, one, other, door, state, eyes, value)",
+    unmissed.texts: "show_report(report) read_report(book, text)",
+    unmissed.journals: "read_journal(lines)",
+}
+METHODS = {
+    unmissed.books.Book: "__init__(self, text) worth(self, calendar, day) moment(self, day) __eq__(self, other) "
+                         "__len__(self) __contains__(self, value) __getitem__(self, name)",
+    unmissed.books.Client: "__eq__(self, other)",
+    unmissed.watches.Watch: "__init__(self, book, door) go_on(self, report) __setitem__(self, day, report) "
+                            "__iadd__(self, history) __len__(self) __getitem__(self, day) __contains__(self, report) "
+                            "stands(self, client) still_asked(self) harm(self) harmed(self) wait(self, report) "
+                            "enough(self, plan) may_go(self) undo(self) redo(self) trial(self) keep(self) "
+                            "tried(self, look, *, keep=False) copy(self) __eq__(self, other) within(self, other)",
+    unmissed.desk.Desk: "__init__(self, lines) say(self, line)",
+}
+
+
 class InterfaceTest(unittest.TestCase):
-    def assert_defined(self, module, names):
-        for name in names:
-            with self.subTest(name):
-                self.assertEqual(getattr(module, name).__module__, module.__name__)
+    def rows(self, text):
+        """Each name with what stands in its brackets."""
+        return [row.split("(") for row in text[:-1].split(") ")]
 
     def test_names_are_defined_where_they_are_listed(self):
-        self.assert_defined(errors, ["UnmissedError"] + NAMES)
-        self.assert_defined(unmissed.books, ["Book", "Client"])
-        self.assert_defined(unmissed.editing, ["forwarded", "shut_out", "without", "joined"])
-        self.assert_defined(unmissed.days, ["first_stand", "turns", "happens", "lived"])
-        self.assert_defined(unmissed.reports, ["is_report", "is_history", "days_of", "folded", "fits"])
-        self.assert_defined(unmissed.fitting, ["can_be", "shows_can_be", "stands", "within", "shows_within"])
-        self.assert_defined(unmissed.asking, ["still_asked", "shows_still_asked"])
-        self.assert_defined(unmissed.harming, ["harm", "shows_harm", "harmed", "hurts", "shows_hurts"])
-        self.assert_defined(unmissed.waiting, ["wait", "shows_wait"])
-        self.assert_defined(unmissed.plans, ["enough", "shows_enough", "cheapest", "shows_cheapest"])
-        self.assert_defined(unmissed.parting, ["parted", "shows_parted"])
+        for name in ["UnmissedError"] + NAMES:
+            self.assertEqual(getattr(errors, name).__module__, "unmissed.errors")
+        for module, text in INTERFACE.items():
+            for name, parameters in self.rows(text):
+                with self.subTest(name):
+                    function = getattr(module, name)
+                    self.assertTrue(inspect.isfunction(function))
+                    self.assertEqual(function.__module__, module.__name__)
+                    self.assertEqual(str(inspect.signature(function)), f"({parameters})")
+        for kind, name in ((unmissed.books.Book, "books"), (unmissed.books.Client, "books"),
+                           (unmissed.watches.Watch, "watches"), (unmissed.desk.Desk, "desk")):
+            self.assertEqual(kind.__module__, f"unmissed.{name}")
 
     def test_methods_stand_in_the_class_itself(self):
-        for name in ("worth", "moment", "__eq__", "__len__", "__contains__", "__getitem__"):
-            self.assertIn(name, vars(unmissed.books.Book))
-        self.assertIn("__eq__", vars(unmissed.books.Client))
+        for kind, text in METHODS.items():
+            for name, parameters in self.rows(text):
+                with self.subTest(name):
+                    self.assertIn(name, vars(kind))
+                    self.assertEqual(str(inspect.signature(vars(kind)[name])), f"({parameters})")
 
 
 if __name__ == "__main__":

@@ -38,9 +38,14 @@ def builtin_methods():
     return {name for kind in (str, list, dict, set, int, tuple, bytes) for name in dir(kind)}
 
 
-def bound_names(tree):
+def methods_of(tree):
+    return [part for node in nodes(tree, ast.ClassDef) for part in node.body if isinstance(part, ast.FunctionDef)]
+
+
+def bound_names(tree, has_methods=True):
     names = [node.id for node in nodes(tree, ast.Name) if isinstance(node.ctx, ast.Store)]
-    names += [node.name for node in nodes(tree, ast.FunctionDef, ast.ClassDef)]
+    methods = [] if has_methods else methods_of(tree)
+    names += [node.name for node in nodes(tree, ast.FunctionDef, ast.ClassDef) if node not in methods]
     return names + [node.arg for node in nodes(tree, ast.arg)]
 
 
@@ -115,11 +120,11 @@ class LanguageTest(unittest.TestCase):
                 tree = parsed(path)
                 imported = [name.name for node in nodes(tree, ast.ImportFrom) for name in node.names]
                 classes = [node.name for node in nodes(tree, ast.ClassDef)]
-                methods = [part.name for node in nodes(tree, ast.ClassDef) for part in node.body
-                           if isinstance(part, ast.FunctionDef)]
+                methods = [part.name for part in methods_of(tree)]
                 bound = bound_names(tree)
                 self.assertEqual([name for name in bound if name in barred], [])
-                self.assertEqual([name for name in bound if name in imported], [])
+                # A method may have the name of an import; nothing else has.
+                self.assertEqual([name for name in bound_names(tree, has_methods=False) if name in imported], [])
                 self.assertEqual([name for name in bound if name in classes], classes)
                 self.assertEqual([name for name in methods if name.startswith("__") and name not in SPECIAL], [])
                 self.assertEqual([name for name in set(bound) if name in BARRED or name.startswith("__")
@@ -137,6 +142,22 @@ class LanguageTest(unittest.TestCase):
                     self.assertNotIn(node.attr, BARRED)
                     if not node.attr.startswith("__"):
                         self.assertNotIn(node.attr, barred)
+
+    def test_no_name_is_a_method_and_an_attribute(self):
+        methods, attributes = set(), set()
+        for path in FILES:
+            tree = parsed(path)
+            methods |= {part.name for part in methods_of(tree)}
+            attributes |= {node.attr for node in nodes(tree, ast.Attribute) if isinstance(node.ctx, ast.Store)}
+        self.assertEqual(methods & attributes, set())
+
+    def test_leaving_a_block(self):
+        for path in FILES:
+            for part in methods_of(parsed(path)):
+                if part.name == "__exit__":
+                    for node in nodes(part, ast.stmt):
+                        self.assertIsInstance(node, (ast.FunctionDef, ast.Assign, ast.If, ast.Return, ast.Pass))
+                    self.assertEqual(nodes(part, ast.Call, ast.Subscript), [])
 
     def test_no_module_leads_back_to_itself(self):
         ahead = {}

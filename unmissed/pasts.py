@@ -64,9 +64,9 @@ def longest_beginning(past, lives):
     return min([past.longest_of_one()] + [many for many, _ in lives.values()])
 
 
-def past_that_can_be(book, door, reports):
+def past_that_can_be(book, door, reports, members=None):
     """The past of these reports; CannotBe if they cannot be."""
-    past = Past(book, door, reports)
+    past = Past(book, door, reports, members)
     many = longest_beginning(past, lives_of_somes(past))
     if many < len(reports):
         raise CannotBe(many)

@@ -4,13 +4,14 @@ from unmissed.errors import BadHistory, BadLife, BadReport
 from unmissed.lives import follows, outcomes_of
 from unmissed.rules import ANYBODY, EARS, NONE, SOME, STATES, fit_rules
 from unmissed.values import check_door, is_integer
+from unmissed.words import is_name
 
 MOST_LIKE = 60
 MOST_PLANNED = 12
 
 
-def is_ear(book, value):
-    """Whether any value is (ear, who, word)."""
+def is_ear(value):
+    """Whether any value is (ear, who, word), who being "*" or any name."""
     if not isinstance(value, tuple) or len(value) != 3:
         return False
     ear, who, word = value
@@ -18,18 +19,23 @@ def is_ear(book, value):
         return False
     if who == ANYBODY:
         return word == NONE
-    return who in book and word in (SOME, NONE)
+    return isinstance(who, str) and is_name(who) and word in (SOME, NONE)
+
+
+def has_form(value):
+    """Whether any value is a report by its form, who being "*" or any name."""
+    if not isinstance(value, tuple) or len(value) != 2:
+        return False
+    state, ears = value
+    if state not in STATES or not isinstance(ears, tuple) or not all([is_ear(ear) for ear in ears]):
+        return False
+    heads = [ear[:2] for ear in ears]
+    return heads == sorted(set(heads))
 
 
 def is_report(book, value):
     """Whether any value is a report, by its form alone."""
-    if not isinstance(value, tuple) or len(value) != 2:
-        return False
-    state, ears = value
-    if state not in STATES or not isinstance(ears, tuple) or not all([is_ear(book, ear) for ear in ears]):
-        return False
-    heads = [ear[:2] for ear in ears]
-    return heads == sorted(set(heads))
+    return has_form(value) and all([who == ANYBODY or who in book for _, who, _ in value[1]])
 
 
 def has_some(report):
@@ -67,19 +73,26 @@ def days_of(book, history):
     return tuple(found)
 
 
-def folded(book, reports):
+def fold(reports):
     """The history, with as few rows as possible, whose days have these reports."""
-    if not isinstance(reports, tuple):
-        raise BadReport(reports)
     rows = []
     for report in reports:
-        if not is_report(book, report):
-            raise BadReport(report)
-        if rows and rows[-1][1] == report:
+        # No row of a history has more days; a watch may have.
+        if rows and rows[-1][1] == report and rows[-1][0] < MOST_LIKE:
             rows[-1] = (rows[-1][0] + 1, report)
         else:
             rows.append((1, report))
     return tuple(rows)
+
+
+def folded(book, reports):
+    """The history, with as few rows as possible, whose days have these reports."""
+    if not isinstance(reports, tuple):
+        raise BadReport(reports)
+    wrong = [report for report in reports if not is_report(book, report)]
+    if wrong:
+        raise BadReport(wrong[0])
+    return fold(reports)
 
 
 def fits(book, door, history, life):
