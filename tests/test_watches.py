@@ -725,7 +725,10 @@ class ManyDaysTest(unittest.TestCase):
         watch = Watch(Book(SHOP), "price")
         for _ in range(3):
             watch += ((60, OPEN),)
-        self.assertEqual(len(watch), 180)
+        watch += ((1, SHUT), (1, SHUT))
+        self.assertEqual(days_of(watch.book, watch.history), watch.reports)
+        self.assertEqual((len(watch), watch.history[-1]), (182, (2, SHUT)))
+        watch.undo()
         self.assertEqual((watch.stands("shop"), watch.harm()[0]), ((plain(0), plain(1)), "harms"))
 
     def test_a_hundred_deeds(self):
