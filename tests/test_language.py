@@ -5,6 +5,8 @@ import builtins
 import unittest
 from pathlib import Path
 
+from tests.leaving import leaving_faults
+
 PACKAGE = Path(__file__).resolve().parent.parent / "unmissed"
 FILES = sorted(PACKAGE.rglob("*.py"))
 
@@ -152,12 +154,14 @@ class LanguageTest(unittest.TestCase):
         self.assertEqual(methods & attributes, set())
 
     def test_leaving_a_block(self):
+        many = 0
         for path in FILES:
-            for part in methods_of(parsed(path)):
-                if part.name == "__exit__":
-                    for node in nodes(part, ast.stmt):
-                        self.assertIsInstance(node, (ast.FunctionDef, ast.Assign, ast.If, ast.Return, ast.Pass))
-                    self.assertEqual(nodes(part, ast.Call, ast.Subscript), [])
+            with self.subTest(path.name):
+                tree = parsed(path)
+                many += len([part for part in methods_of(tree) if part.name == "__exit__"])
+                self.assertEqual(leaving_faults(tree), [])
+        # A watch's trial at least is a block.
+        self.assertGreater(many, 0)
 
     def test_no_module_leads_back_to_itself(self):
         ahead = {}
@@ -169,6 +173,70 @@ class LanguageTest(unittest.TestCase):
             self.assertTrue(free, ahead)
             for name in free:
                 del ahead[name]
+
+
+LEAVING = """
+class Trial:
+    def __exit__(self, kind, value, trace):
+        watch = self.watch
+        {row}
+            watch.deeds = self.deeds
+        {behind}
+
+    def shut(self):
+        {shut}
+        self.rows = ()
+
+    def add(self, row):
+        self.rows = row
+"""
+
+
+class LeavingTest(unittest.TestCase):
+    """What the look at the rows of `__exit__` finds."""
+
+    def faults(self, row="if kind is None:", behind="pass", shut="pass"):
+        return leaving_faults(ast.parse(LEAVING.format(row=row, behind=behind, shut=shut)))
+
+    def test_what_may_be_asked(self):
+        for test in ("kind is None", "kind is not None", "self.kept is None", "self.watch.block is not None",
+                     "watch is None", "watch.block is None", "not kind is None",
+                     "kind is not None or self.kept is None", "not (kind is None and self.kept is not None)"):
+            self.assertEqual(self.faults(f"if {test}:"), [], test)
+
+    def test_what_may_not_be_asked(self):
+        for test in ("self.kept", "not self.kept", "kind is not None or not self.is_kept", "kind", "not kind", "watch",
+                     "kind is None and self.kept", "self.kept is True", "self.many == 0", "self.many > 0", "value is None",
+                     "trace is not None", "self.kept is self.none", "None is self.kept", "self.kept == None", "True", "None",
+                     "self.asks()", "self.asks() is None", "len(self.deeds) is None", "self.deeds[0] is None",
+                     "DONE is None", "kind is None is None", "(kept := self.kept) is None", "kind in (None,)",
+                     "self.kept if kind is None else watch.kept", "isinstance(kind, ValueError)"):
+            self.assertEqual(self.faults(f"if {test}:"), [5], test)
+
+    def test_ifs_within_ifs(self):
+        self.assertEqual(self.faults(behind="if kind is None:\n            if self.kept:\n                pass"), [8])
+        self.assertEqual(self.faults(behind="if kind is None:\n            pass\n        elif self.kept:\n            pass"), [9])
+
+    def test_rows_that_may_stand_there(self):
+        for row in ("pass", "return", "return None", "return False", "self.word = 'out'", "self.at = 0", "self.shut()",
+                    "watch.rows = self.rows", "watch.block = watch", "self.rows = [self.at, (watch, ())]", "deeds = self.deeds"):
+            self.assertEqual(self.faults(behind=row), [], row)
+
+    def test_rows_that_may_not_stand_there(self):
+        for row in ("return True", "return 0", "return self", "self.at = -1", "self.at = self.at + 1", "self.at += 1",
+                    "self.word = kind", "self.word = value", "self.word = DONE", "self.at = len(self.rows)", "deeds = 0",
+                    "watch = self.other", "watch = self", "deeds = self.watch.deeds", "kind = self.kind", "watch.undo()",
+                    "self.undo()", "self.add(1)", "self.at = self.rows[0]", "self.rows[0] = 1", "self.a = self.b = 0",
+                    "del self.rows[0]", "raise ValueError", "assert self.kept is None", "for at in self.rows: pass",
+                    "while self.kept is None: pass", "print(self.kept)", "'a docstring'", "self.word: int = 0", "self.shut"):
+            self.assertEqual(self.faults(behind=row), [7], row)
+
+    def test_methods_that_are_called(self):
+        asking = "if not self.kept:\n            return"
+        self.assertEqual(self.faults(shut=asking), [])
+        self.assertEqual(self.faults(behind="self.shut()", shut=asking), [10])
+        self.assertEqual(self.faults(behind="self.shut()", shut="self.shut()"), [10])
+        self.assertEqual(self.faults(behind="self.shut()", shut="if self.kept is None:\n            return"), [])
 
 
 if __name__ == "__main__":

@@ -18,7 +18,8 @@ class Trial:
 
     def __init__(self, watch):
         self.watch = watch
-        self.is_kept = False
+        # None as long as nobody keeps the trial: on leaving, nothing else may be asked of an attribute.
+        self.kept = None
 
     def __enter__(self):
         watch = self.watch
@@ -36,7 +37,7 @@ class Trial:
     def __exit__(self, kind, value, trace):
         watch = self.watch
         watch.block = self.around
-        if kind is not None or not self.is_kept:
+        if kind is not None or self.kept is None:
             watch.deeds = self.deeds
             watch.undone = self.undone
             watch.reports = self.reports
@@ -168,7 +169,7 @@ class Watch:
         block = self.block
         if block is None:
             raise NoTrial(None)
-        block.is_kept = True
+        block.kept = True
 
     def tried(self, look, *, keep=False):
         """What look, called with the watch in a trial, returns; the trial is kept if keep is True."""
