@@ -1,6 +1,7 @@
 """Small books, histories and wrong values, made by chance from a number, the same ones for the same number."""
 
 import random
+import re
 
 from tests.samples import fault
 
@@ -130,6 +131,21 @@ def other_ones(value):
         for other in changed(part):
             yield value[:at] + (other,) + value[at + 1:]
     yield value[::-1]
+
+
+def spoiled(text, maker, signs):
+    """A text that differs at one place or two: some words or signs are left out, told again, or put in for others.
+
+    What is put in is one of these signs, or stands elsewhere in the text.
+    """
+    for _ in range(maker.one_of(1, 1, 2)):
+        parts = re.findall(maker.one_of("[a-z]+|[0-9]+|.", "."), text, re.DOTALL)
+        first, other = (maker.chance.randrange(len(parts) + 1) for _ in range(2))
+        many = maker.one_of(0, 1, 1, 1, 2, 5, 20)
+        last = first + many
+        middle = maker.one_of([], [maker.one_of(*signs)], parts[first:last] * 2, parts[other:other + many])
+        text = "".join(parts[:first] + middle + parts[last:])
+    return text
 
 
 class ShutMaker(Maker):

@@ -206,29 +206,35 @@ class LeavingTest(unittest.TestCase):
 
     def test_what_may_not_be_asked(self):
         for test in ("self.kept", "not self.kept", "kind is not None or not self.is_kept", "kind", "not kind", "watch",
-                     "kind is None and self.kept", "self.kept is True", "self.many == 0", "self.many > 0", "value is None",
-                     "trace is not None", "self.kept is self.none", "None is self.kept", "self.kept == None", "True", "None",
-                     "self.asks()", "self.asks() is None", "len(self.deeds) is None", "self.deeds[0] is None",
+                     "kind is None and self.kept", "self.kept is True", "self.many == 0", "self.many > 0",
+                     "value is None", "trace is not None", "self.kept is self.none", "None is self.kept",
+                     "self.kept == None", "True", "None", "self.asks()", "self.asks() is None",
+                     "len(self.deeds) is None", "self.deeds[0] is None",
                      "DONE is None", "kind is None is None", "(kept := self.kept) is None", "kind in (None,)",
                      "self.kept if kind is None else watch.kept", "isinstance(kind, ValueError)"):
             self.assertEqual(self.faults(f"if {test}:"), [5], test)
 
     def test_ifs_within_ifs(self):
-        self.assertEqual(self.faults(behind="if kind is None:\n            if self.kept:\n                pass"), [8])
-        self.assertEqual(self.faults(behind="if kind is None:\n            pass\n        elif self.kept:\n            pass"), [9])
+        ahead = "if kind is None:\n            "
+        self.assertEqual(self.faults(behind=ahead + "if self.kept:\n                pass"), [8])
+        self.assertEqual(self.faults(behind=ahead + "pass\n        elif self.kept:\n            pass"), [9])
+        self.assertEqual(self.faults(behind=ahead + "pass\n        else:\n            self.at += 1"), [10])
 
     def test_rows_that_may_stand_there(self):
         for row in ("pass", "return", "return None", "return False", "self.word = 'out'", "self.at = 0", "self.shut()",
-                    "watch.rows = self.rows", "watch.block = watch", "self.rows = [self.at, (watch, ())]", "deeds = self.deeds"):
+                    "watch.rows = self.rows", "watch.block = watch", "self.rows = [self.at, (watch, ())]",
+                    "deeds = self.deeds"):
             self.assertEqual(self.faults(behind=row), [], row)
 
     def test_rows_that_may_not_stand_there(self):
         for row in ("return True", "return 0", "return self", "self.at = -1", "self.at = self.at + 1", "self.at += 1",
-                    "self.word = kind", "self.word = value", "self.word = DONE", "self.at = len(self.rows)", "deeds = 0",
-                    "watch = self.other", "watch = self", "deeds = self.watch.deeds", "kind = self.kind", "watch.undo()",
-                    "self.undo()", "self.add(1)", "self.at = self.rows[0]", "self.rows[0] = 1", "self.a = self.b = 0",
+                    "self.word = kind", "self.word = value", "self.word = DONE", "self.at = len(self.rows)",
+                    "deeds = 0", "watch = self.other", "watch = self", "deeds = self.watch.deeds", "kind = self.kind",
+                    "watch.undo()", "self.undo()", "self.add(1)", "self.at = self.rows[0]", "self.rows[0] = 1",
+                    "self.a = self.b = 0",
                     "del self.rows[0]", "raise ValueError", "assert self.kept is None", "for at in self.rows: pass",
-                    "while self.kept is None: pass", "print(self.kept)", "'a docstring'", "self.word: int = 0", "self.shut"):
+                    "while self.kept is None: pass", "print(self.kept)", "'a docstring'", "self.word: int = 0",
+                    "self.shut"):
             self.assertEqual(self.faults(behind=row), [7], row)
 
     def test_methods_that_are_called(self):

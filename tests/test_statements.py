@@ -1,9 +1,26 @@
 """Section 4: the statements of a day, their depths and their expressions."""
 
+import re
 import unittest
+from itertools import product
 
 from unmissed.books import Book
+from tests.chance import Maker, spoiled
 from tests.samples import DAY_LINE, WEEK, book_of, client, day_of, fault
+
+
+LEAF = re.compile(r"\b(x|y|u|week|[0-9]|[12][0-9]|30)\b(?!\()")
+CALL = re.compile(r"\b(?:(?:same|less|and|or)\(<(\d)>, <(\d)>\)|(?:not|more|fewer)\(<(\d)>\))")
+
+
+def naive_depth(text):
+    """How deep the expression is that a text writes in the day of day_of; None if it writes none."""
+    left, ahead = LEAF.sub("<1>", text), None
+    while left != ahead:
+        ahead = left
+        left = CALL.sub(lambda found: f"<{1 + max(int(depth) for depth in found.groups() if depth)}>", left)
+    found = re.fullmatch("<([0-9])>", left)
+    return int(found.group(1)) if found else None
 
 
 class StatementTest(unittest.TestCase):
@@ -158,6 +175,36 @@ class ExpressionTest(unittest.TestCase):
                               "same (x, y)", "not( x)", "not(x )", " x", "x ", "not(x) ", "same(x,\ty)")
         self.assert_all_wrong("not(x", "not x)", "not(x))", "not((x)", "not((x))", "same(not(x, y)",
                               "same(x), y)", "not(x)(y)", "not(x), y", "not(xx", "same(x, yy", "not(x,", "not(x]", "same(x, y)z", ", x", "x,", "),(")
+
+    def test_a_bracket_left_open(self):
+        # Behind as many parts as the function wants there is something more.
+        self.assert_all_wrong("not(0, (0)", "more(1, ()", "fewer(2, not(0)", "same(0, 1, same(0, 1)", "and(x, y, (x)",
+                              "not(same(0, 1), same(0, 1)", "more(x, same(x, 0)", "not(1, less(0, 1)",
+                              "less(1, 2, or(x, (3)", "not(x, same(0, not(1)", "or(x, y, x, (y, x)", "more(x, y, ((x)",
+                              "not(x, x(y)")
+        # Within another function; with too few parts ahead; with nothing that is open but the function itself.
+        self.assert_all_wrong("same(not(0, (0), 1)", "not(not(0, (0))", "same(0, not(1, (1)", "same(x, not(y, not(x))",
+                              "same(0, (1)", "same(0, same(0, 1)", "same(not(0, 1)", "not((0)", "not(not(0)",
+                              "not(0", "not(0, ", "same(0, 1, ", "same(0, 1", "same(0, 1, not(", "not(0, (")
+        self.assert_all_right("not(0)", "more(1)", "fewer(not(0))", "same(0, same(0, 1))", "not(same(0, 1))",
+                              "less(1, or(x, 3))", "not(same(0, not(1)))", "same(more(x), same(x, 0))")
+
+    def test_by_chance_and_by_short_texts(self):
+        """What is an expression is told a second time: by what is left of a text if its parts are put together."""
+        tokens = ("not(", "same(", "(", ")", ", ", "x", "3")
+        texts = ["".join(part) for many in range(1, 6) for part in product(tokens, repeat=many)]
+        signs = ("(", ")", ", ", ", (", "not(", "same(x, ", "0", "x", "z", "31", " ")
+        for number in range(3000):
+            maker = Maker(number)
+            text = maker.expression(["x", "y", "u", "week"], 4)
+            texts += [text] + [spoiled(text, maker, signs) for _ in range(5)]
+        many = 0
+        for text in texts:
+            depth = naive_depth(text)
+            is_right = depth is not None and depth <= 4
+            many += is_right
+            self.assertEqual(fault(day_of("tell " + text)), None if is_right else DAY_LINE, text)
+        self.assertGreater(many, 3000)
 
     def test_parts_within_parts(self):
         self.assert_all_right("same(and(x, y), or(u, week))", "less(x, same(less(x, y), not(u)))",

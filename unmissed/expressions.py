@@ -12,7 +12,10 @@ MANY_PARTS = {"same": 2, "less": 2, "and": 2, "or": 2, "not": 1, "more": 1, "few
 
 
 def split_parts(text):
-    """The texts between the commas of a text, but for the commas that stand within brackets."""
+    """The texts between the commas of a text, but for the commas that stand within brackets.
+
+    Joined by commas they are the text again: behind a bracket that is left open, all that follows is one of them.
+    """
     parts = []
     held = []
     for piece in text.split(", "):
@@ -21,6 +24,8 @@ def split_parts(text):
         if part.count("(") <= part.count(")"):
             parts.append(part)
             held = []
+    if held:
+        parts.append(", ".join(held))
     return parts
 
 
